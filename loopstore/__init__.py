@@ -1,0 +1,1 @@
+"""Loopstore: queues kept in loops that never stand still."""

@@ -1,0 +1,43 @@
+"""Clashes: whether two letters can want one loop at one tick, told by the entries of a table alone."""
+
+from loopstore.checks import check_comers
+from loopstore.tables import entries
+
+
+def entries_by_loop(table):
+    """For each loop of the table that has entries, the list of them."""
+    found = {}
+    for entry in entries(table):
+        found.setdefault(entry[0], []).append(entry)
+    return found
+
+
+def clashing(table, comers):
+    """Goes through all pairs of entries that clash, the one with the lesser left first, in no order."""
+    found = entries_by_loop(table)
+    for same in found.values():
+        for one in same:
+            for other in same:
+                # The other letter stands so many places behind the one, and no more can have come since.
+                apart = other[2] - one[2]
+                if apart > 0 and one[1] >= other[1] and apart <= comers * (one[1] - other[1]) + comers - 1:
+                    yield one, other
+
+
+def first_clash(table, comers):
+    """A pair of entries that clash, or None."""
+    for pair in clashing(table, comers):
+        return pair
+    return None
+
+
+def clashes(table, comers):
+    """All pairs of entries that clash, ascending, in each the one with the lesser left first."""
+    check_comers(comers)
+    return sorted(list(clashing(table, comers)))
+
+
+def safe(table, comers):
+    """Whether no two entries clash."""
+    check_comers(comers)
+    return first_clash(table, comers) is None

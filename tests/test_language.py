@@ -1,0 +1,173 @@
+"""Those rules of LANGUAGE.md that can be told from the code alone; their numbers stand in the names of the tests."""
+
+import ast
+import builtins
+import pathlib
+import re
+import unittest
+
+FOLDER = pathlib.Path(__file__).resolve().parent.parent / "loopstore"
+BUILTINS = set(
+    "len range enumerate zip min max sum abs sorted reversed int str bool bytes list tuple dict set frozenset isinstance "
+    "ord repr any all divmod pow getattr hasattr setattr map iter next Exception ValueError TypeError KeyError IndexError "
+    "LookupError ZeroDivisionError ArithmeticError OverflowError RuntimeError NotImplementedError AttributeError "
+    "StopIteration NotImplemented".split())
+METHODS = set(
+    "append clear copy count endswith extend find get index insert isalnum isalpha isdigit islower isspace isupper items "
+    "join keys ljust lower lstrip partition pop remove replace reverse rfind rjust rpartition rsplit rstrip setdefault "
+    "split splitlines startswith strip update upper values zfill bit_length add discard".split())
+STATEMENTS = (
+    ast.Assign, ast.AugAssign, ast.AnnAssign, ast.If, ast.While, ast.For, ast.Return, ast.Break, ast.Continue, ast.Pass,
+    ast.Raise, ast.Assert, ast.Delete, ast.Expr, ast.FunctionDef, ast.ClassDef, ast.ImportFrom)
+BARRED = (
+    ast.GeneratorExp, ast.Set, ast.SetComp, ast.Div, ast.Global, ast.Nonlocal, ast.AsyncFunctionDef, ast.Await,
+    ast.AsyncFor, ast.AsyncWith, ast.Try, ast.With, ast.NamedExpr)
+WORDS = re.compile(
+    r"\b(register|mro|elements|open|input|law|type|typing|enum|Enum|Flag|Generic|Protocol|ABC|namedtuple|dataclass|"
+    r"eval|exec|exit|globals|locals|vars|dir|id|gc|os|sys|super|compile|_wall|_WallAttr)\b")
+
+
+def names_bound(tree):
+    for node in ast.walk(tree):
+        if isinstance(node, ast.Name) and isinstance(node.ctx, ast.Store):
+            yield node.id
+        elif isinstance(node, ast.arg):
+            yield node.arg
+        elif isinstance(node, (ast.FunctionDef, ast.ClassDef)):
+            yield node.name
+
+
+class LanguageTest(unittest.TestCase):
+    @classmethod
+    def setUpClass(cls):
+        cls.texts = {path: path.read_text("utf-8") for path in sorted(FOLDER.glob("*.py"))}
+        cls.trees = {path: ast.parse(text) for path, text in cls.texts.items()}
+
+    def nodes(self, *kinds):
+        for path, tree in self.trees.items():
+            for node in ast.walk(tree):
+                if isinstance(node, kinds):
+                    yield f"{path.name}:{getattr(node, 'lineno', 0)}", node
+
+    def test_l1_l14_the_folder_holds_plain_files_alone(self):
+        for path in FOLDER.iterdir():
+            if path.name != "__pycache__":
+                self.assertRegex(path.name, r"^[a-z][a-z0-9_]*\.py$|^__init__\.py$")
+        self.assertIn(FOLDER / "__init__.py", self.texts)
+
+    def test_l2_l16_imports_are_from_files_of_the_package(self):
+        for place, node in self.nodes(ast.Import, ast.ImportFrom):
+            with self.subTest(place):
+                self.assertIsInstance(node, ast.ImportFrom)
+                self.assertEqual(node.level, 0)
+                self.assertTrue(node.module.startswith("loopstore."))
+                tree = self.trees[FOLDER / (node.module.partition(".")[2] + ".py")]
+                defined = {name for part in tree.body if not isinstance(part, ast.ImportFrom) for name in names_bound(part)}
+                for alias in node.names:
+                    self.assertIn(alias.name, defined)
+                    self.assertIsNone(alias.asname)
+
+    def test_l2_all_imports_are_used(self):
+        for path, tree in self.trees.items():
+            read = {node.id for node in ast.walk(tree) if isinstance(node, ast.Name)}
+            for node in tree.body:
+                if isinstance(node, ast.ImportFrom):
+                    for alias in node.names:
+                        self.assertIn(alias.name, read, path.name)
+
+    def test_l3_module_level_holds_definitions_and_plain_values(self):
+        for path, tree in self.trees.items():
+            for node in tree.body:
+                with self.subTest(f"{path.name}:{node.lineno}"):
+                    self.assertIsInstance(node, (ast.Expr, ast.ImportFrom, ast.FunctionDef, ast.ClassDef, ast.Assign))
+                    if isinstance(node, (ast.Expr, ast.Assign)):
+                        ast.literal_eval(node.value)
+
+    def test_l4_l6_l7_statements_and_expressions(self):
+        for place, node in self.nodes(ast.stmt):
+            with self.subTest(place):
+                self.assertIsInstance(node, STATEMENTS)
+        for place, node in self.nodes(*BARRED):
+            self.fail(f"{place}: {type(node).__name__}")
+        for place, node in self.nodes(ast.FunctionDef, ast.ClassDef):
+            self.assertEqual(node.decorator_list, [], place)
+        for place, node in self.nodes(ast.Constant):
+            self.assertNotIsInstance(node.value, (float, complex), place)
+
+    def test_l8_only_told_builtins_and_none_renamed(self):
+        for place, node in self.nodes(ast.Name):
+            with self.subTest(place):
+                if hasattr(builtins, node.id):
+                    self.assertIn(node.id, BUILTINS)
+                    self.assertIsInstance(node.ctx, ast.Load)
+        for tree in self.trees.values():
+            for name in names_bound(tree):
+                self.assertFalse(hasattr(builtins, name) and not name.startswith("__"), name)
+
+    def test_l10_sizes(self):
+        for path, text in self.texts.items():
+            rows = text.split("\n")
+            self.assertLessEqual(len(rows), 399, path.name)
+            for at, row in enumerate(rows, 1):
+                self.assertLessEqual(len(row), 120, f"{path.name}:{at}")
+        for place, node in self.nodes(ast.FunctionDef):
+            self.assertLessEqual(node.end_lineno - node.lineno + 1, 40, place)
+
+    def test_l14_l27_characters(self):
+        for path, text in self.texts.items():
+            self.assertTrue(all(" " <= sign <= "~" or sign == "\n" for sign in text), path.name)
+        for place, node in self.nodes(ast.Constant):
+            self.assertNotIn("%", str(node.value), place)
+
+    def test_l12_l17_names(self):
+        for tree in self.trees.values():
+            for name in names_bound(tree):
+                self.assertRegex(name, r"^(_|_?[A-Za-z][A-Za-z0-9_]*|__[a-z]+__)$")
+                self.assertIsNone(WORDS.search(name), name)
+        for place, node in self.nodes(ast.Attribute):
+            self.assertIsNone(WORDS.search(node.attr), place)
+        for place, node in self.nodes(ast.Name):
+            if isinstance(node.ctx, ast.Load):
+                self.assertNotEqual(node.id, "_", place)
+
+    def test_l15_no_local_name_is_that_of_an_import_or_a_class(self):
+        for path, tree in self.trees.items():
+            taken = {alias.name for node in tree.body if isinstance(node, ast.ImportFrom) for alias in node.names}
+            taken |= {node.name for node in tree.body if isinstance(node, ast.ClassDef)}
+            top = [name for node in tree.body for name in ([node.name] if hasattr(node, "name") else [])]
+            self.assertEqual(len(top), len(set(top)), path.name)
+            for function in [node for node in ast.walk(tree) if isinstance(node, ast.FunctionDef)]:
+                bound = {name for part in [function.args, *function.body] for name in names_bound(part)}
+                self.assertFalse(bound & taken, f"{path.name}: {function.name}")
+
+    def test_l20_is_stands_beside_none(self):
+        for place, node in self.nodes(ast.Compare):
+            for operator, other in zip(node.ops, node.comparators):
+                if isinstance(operator, (ast.Is, ast.IsNot)):
+                    self.assertIsInstance(other, ast.Constant, place)
+
+    def test_l22_keywords(self):
+        for place, node in self.nodes(ast.keyword):
+            self.assertIn(node.arg, ("key", "reverse", "start", "default"), place)
+
+    def test_l25_methods(self):
+        own = {node.name for _, node in self.nodes(ast.FunctionDef)}
+        for place, node in self.nodes(ast.Call):
+            if isinstance(node.func, ast.Attribute):
+                self.assertIn(node.func.attr, METHODS | own, place)
+
+    def test_l27_exponents_are_literals(self):
+        for place, node in self.nodes(ast.BinOp):
+            if isinstance(node.op, ast.Pow):
+                self.assertIsInstance(node.right, ast.Constant, place)
+
+    def test_l28_double_underscore_methods(self):
+        for place, node in self.nodes(ast.FunctionDef):
+            if node.name.startswith("__"):
+                self.assertIn(node.name, ("__init__", "__eq__", "__repr__", "__str__", "__len__"), place)
+            if node.name == "__init__":
+                self.assertFalse([part for part in ast.walk(node) if isinstance(part, ast.Return)], place)
+
+
+if __name__ == "__main__":
+    unittest.main()
