@@ -5,7 +5,7 @@ from loopstore.tables import entries
 
 
 def entries_by_loop(table):
-    """For each loop of the table that has entries, the list of them."""
+    """The entries of each loop that has some; loops and entries ascending."""
     found = {}
     for entry in entries(table):
         found.setdefault(entry[0], []).append(entry)
@@ -13,9 +13,9 @@ def entries_by_loop(table):
 
 
 def clashing(table, comers):
-    """Goes through all pairs of entries that clash, the one with the lesser left first, in no order."""
-    found = entries_by_loop(table)
-    for same in found.values():
+    """Goes through all pairs of entries that clash, ascending, in each the one with the lesser left first."""
+    by_loop = entries_by_loop(table)
+    for same in by_loop.values():
         for one in same:
             for other in same:
                 # The other letter stands so many places behind the one, and no more can have come since.
@@ -25,7 +25,7 @@ def clashing(table, comers):
 
 
 def first_clash(table, comers):
-    """A pair of entries that clash, or None."""
+    """The least pair of entries that clash, or None."""
     for pair in clashing(table, comers):
         return pair
     return None
@@ -34,7 +34,7 @@ def first_clash(table, comers):
 def clashes(table, comers):
     """All pairs of entries that clash, ascending, in each the one with the lesser left first."""
     check_comers(comers)
-    return sorted(list(clashing(table, comers)))
+    return list(clashing(table, comers))
 
 
 def safe(table, comers):

@@ -107,7 +107,7 @@ def in_order(numbers, room, order):
     """The lengths of free loops that fit into the room, in one of many orders."""
     fitting = [length for length in numbers if numbers[length] > 0 and length <= room]
     if order == 0:
-        # A letter that is home at once needs no further loop; one that goes half the way leaves the long loops free.
+        # By trial the best one: a letter that comes home at once needs no further loop, and half the way is next best.
         return sorted(fitting, key=lambda length: (length != room, abs(2 * length - room)))
     return sorted(fitting, key=lambda length: (length + 7) * (room + 3) * order % 127)
 

@@ -19,6 +19,7 @@ METHODS = set(
 STATEMENTS = (
     ast.Assign, ast.AugAssign, ast.AnnAssign, ast.If, ast.While, ast.For, ast.Return, ast.Break, ast.Continue, ast.Pass,
     ast.Raise, ast.Assert, ast.Delete, ast.Expr, ast.FunctionDef, ast.ClassDef, ast.ImportFrom)
+# Some of these are let in certain places; the package does without them, so that no place has to be judged.
 BARRED = (
     ast.GeneratorExp, ast.Set, ast.SetComp, ast.Div, ast.Global, ast.Nonlocal, ast.AsyncFunctionDef, ast.Await,
     ast.AsyncFor, ast.AsyncWith, ast.Try, ast.With, ast.NamedExpr)
