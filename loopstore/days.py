@@ -3,14 +3,14 @@
 from loopstore.checks import are_integers, check_bound, check_comers, check_comings, check_loops, is_number
 from loopstore.errors import Meet, NoTick
 from loopstore.lines import letters_of
-from loopstore.tables import enterings
+from loopstore.tables import wait_entries
 
 LAST_TICK = 1000
 
 
 def layings_of(table, tick, letter, wait):
     """The layings by the table of a letter that comes at the tick with the wait."""
-    return [(tick + gone, letter, loop) for gone, loop in enterings(table, wait)]
+    return [(tick + gone, letter, loop) for loop, gone, left in wait_entries(table, wait)]
 
 
 def table_layings(table, comings):

@@ -4,6 +4,7 @@ from loopstore.checks import check_comers, is_comings, is_integer
 from loopstore.clashes import first_clash
 from loopstore.days import layings_of
 from loopstore.lines import letters_of
+from loopstore.tables import entries
 
 
 def meeting_of(comers, one, other):
@@ -25,7 +26,7 @@ def meeting_of(comers, one, other):
 def meeting(table, comers):
     """Comings and two letters that meet by them, or None."""
     check_comers(comers)
-    found = first_clash(table, comers)
+    found = first_clash(entries(table), comers)
     if found is None:
         return None
     return meeting_of(comers, found[0], found[1])

@@ -27,20 +27,28 @@ class Table:
         return isinstance(other, Table) and self.loops == other.loops and self.rows == other.rows
 
 
-def enterings(table, wait):
-    """The pairs (gone, loop) of a letter with this wait: so many ticks behind its coming it enters the loop."""
+def row_entries(loops, row):
+    """The entries (loop, gone, left) of a row whose sum is its wait, in the order of its items."""
     found = []
-    if wait > 0:
-        gone = 0
-        for loop in table.rows[wait - 1]:
-            found.append((gone, loop))
-            gone += table.loops[loop]
+    gone = 0
+    left = row_sum(loops, row)
+    for loop in row:
+        found.append((loop, gone, left))
+        gone += loops[loop]
+        left -= loops[loop]
     return found
+
+
+def wait_entries(table, wait):
+    """The entries of a letter with this wait, in the order of the items of its row."""
+    if wait == 0:
+        return []
+    return row_entries(table.loops, table.rows[wait - 1])
 
 
 def entries(table):
     """All entries (loop, gone, left), ascending."""
     found = []
-    for wait in range(1, table.bound + 1):
-        found.extend([(loop, gone, wait - gone) for gone, loop in enterings(table, wait)])
+    for row in table.rows:
+        found.extend(row_entries(table.loops, row))
     return sorted(found)

@@ -40,6 +40,41 @@ def odd_tuples():
     ]
 
 
+def wrong_comers():
+    return odd_numbers() + [0, 1, 5]
+
+
+def wrong_bounds():
+    return odd_numbers() + [0, 61]
+
+
+def wrong_loops():
+    return odd_tuples() + [(), (1,) * 9, (0,), (41,), (1, 41), (1, 0), (1, True), [1, 2], (1, "2"), (T,), b"\x01", (1, (1,))]
+
+
+def wrong_numbers(comers):
+    """Things that are no number of letters that come."""
+    return odd_numbers() + [comers + 1]
+
+
+def assert_errors(case, function, right, steps):
+    """A step is (place, error, things): each of these things at this place raises just this error.
+
+    So it does, too, if all arguments at the places of later steps are wrong.
+    """
+    function(*right)
+    for step, (place, error, things) in enumerate(steps):
+        later = [at for at, _, _ in steps[step + 1:]]
+        for thing in things:
+            args = [thing if at == place else arg for at, arg in enumerate(right)]
+            worse = [None if at in later else arg for at, arg in enumerate(args)]
+            for tried in (args, worse):
+                with case.subTest(error=error.__name__, thing=repr(thing)[:40]):
+                    with case.assertRaises(error) as caught:
+                        function(*tried)
+                    case.assertIs(type(caught.exception), error)
+
+
 def led_line(bound, comings):
     """The letters, led by a line that is a list: dicts with tick, turn, wait and out."""
     letters = []

@@ -2,7 +2,8 @@ import itertools
 import random
 import unittest
 
-from common import LONGEST, T, U, V, led_day, led_line, meets_of, odd_numbers, odd_things, odd_tuples, random_table
+from common import (
+    LONGEST, T, U, V, led_day, led_line, meets_of, odd_numbers, odd_things, odd_tuples, random_table, wrong_loops)
 from loopstore.clashes import safe
 from loopstore.days import day, inside, is_day
 from loopstore.errors import Meet, NoBound, NoComers, NoComings, NoLoops, NoTick
@@ -267,7 +268,7 @@ class IsDayTest(unittest.TestCase):
         self.assertFalse(is_day(table.loops, 2, 59, comings, told))
 
     def test_wrong_arguments_and_their_order(self):
-        for thing in [wrong for wrong in odd_tuples() if wrong != (1,)] + [(), (1,) * 9, (41,), (1, True), [1, 2]]:
+        for thing in wrong_loops():
             with self.subTest(thing=repr(thing)[:40]):
                 self.assertRaises(NoLoops, is_day, thing, 2, 1, (), ())
                 self.assertRaises(NoLoops, is_day, thing, 5, 0, None, None)

@@ -13,6 +13,11 @@ FUNCTIONS = {
             "is_day(loops, comers, bound, comings, thing)",
     "knowing": "ahead(loops, comers, bound, comings)",
     "sizes": "reach(loops) fewest(bound) flood(loops) lengths(bound)",
+    "doubling": "doubling(loops) digits(loops, wait) doubling_table(loops) doubling_lists(total)",
+    "search": "rows_for(loops, wait) friends(loops, comers, row, other) table_for(loops, comers, bound) "
+              "completed(loops, comers, bound, told) greatest_table(loops, comers) count_tables(loops, comers, bound)",
+    "bars": "barred(loops, comers, bound) is_barred(loops, comers, bound, thing)",
+    "stands": "layings_out(loops, comers, bound, stand, number) behind(loops, comers, bound, stand, number, thing)",
 }
 
 

@@ -2,7 +2,7 @@ import itertools
 import random
 import unittest
 
-from common import V, led_line, odd_numbers, odd_tuples
+from common import V, led_line, odd_numbers, odd_tuples, wrong_loops
 from loopstore.days import day, is_day
 from loopstore.errors import NoBound, NoComers, NoComings, NoLoops, TooMany
 from loopstore.knowing import ahead
@@ -147,7 +147,7 @@ class AheadTest(unittest.TestCase):
         self.assertRaises(TooMany, ahead, (1,), 4, 1, (4,) * 6 + (1,))
 
     def test_wrong_arguments_and_their_order(self):
-        for thing in [wrong for wrong in odd_tuples() if wrong != (1,)] + [(), (1,) * 9, (41,), (1, True), [1, 2]]:
+        for thing in wrong_loops():
             with self.subTest(thing=repr(thing)[:40]):
                 self.assertRaises(NoLoops, ahead, thing, 2, 1, ())
                 self.assertRaises(NoLoops, ahead, thing, 5, 0, None)

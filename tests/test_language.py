@@ -16,6 +16,7 @@ METHODS = set(
     "append clear copy count endswith extend find get index insert isalnum isalpha isdigit islower isspace isupper items "
     "join keys ljust lower lstrip partition pop remove replace reverse rfind rjust rpartition rsplit rstrip setdefault "
     "split splitlines startswith strip update upper values zfill bit_length add discard".split())
+LIBRARY = {"heapq": ("heappush", "heappop"), "math": ("gcd",), "itertools": ("permutations", "combinations", "product")}
 STATEMENTS = (
     ast.Assign, ast.AugAssign, ast.AnnAssign, ast.If, ast.While, ast.For, ast.Return, ast.Break, ast.Continue, ast.Pass,
     ast.Raise, ast.Assert, ast.Delete, ast.Expr, ast.FunctionDef, ast.ClassDef, ast.ImportFrom)
@@ -61,12 +62,26 @@ class LanguageTest(unittest.TestCase):
             with self.subTest(place):
                 self.assertIsInstance(node, ast.ImportFrom)
                 self.assertEqual(node.level, 0)
+                if node.module in LIBRARY:
+                    for alias in node.names:
+                        self.assertIn(alias.name, LIBRARY[node.module])
+                        self.assertIsNone(alias.asname)
+                    continue
                 self.assertTrue(node.module.startswith("loopstore."))
                 tree = self.trees[FOLDER / (node.module.partition(".")[2] + ".py")]
                 defined = {name for part in tree.body if not isinstance(part, ast.ImportFrom) for name in names_bound(part)}
                 for alias in node.names:
                     self.assertIn(alias.name, defined)
                     self.assertIsNone(alias.asname)
+
+    def test_l2_the_library_is_called_by_its_bare_names(self):
+        for path, tree in self.trees.items():
+            taken = [alias.name for node in tree.body if isinstance(node, ast.ImportFrom) and node.module in LIBRARY
+                     for alias in node.names]
+            called = [node.func for node in ast.walk(tree) if isinstance(node, ast.Call)]
+            for node in ast.walk(tree):
+                if isinstance(node, ast.Name) and node.id in taken:
+                    self.assertIn(node, called, path.name)
 
     def test_l2_all_imports_are_used(self):
         for path, tree in self.trees.items():

@@ -1,13 +1,11 @@
 import itertools
 import unittest
 
-from common import T, odd_numbers, odd_tuples
+from common import assert_errors, wrong_bounds, wrong_loops
 from loopstore.errors import NoBound, NoLoops
 from loopstore.knowing import ahead
 from loopstore.lines import waits
 from loopstore.sizes import fewest, flood, lengths, reach
-
-WRONG_LOOPS = odd_tuples() + [(), (1,) * 9, (0,), (41,), (1, 41), (1, True), (True,), [1, 2], (1, None), (T,)]
 
 
 class ReachTest(unittest.TestCase):
@@ -42,11 +40,8 @@ class ReachTest(unittest.TestCase):
                 self.assertEqual(reach(loops), sums[stops[0]])
 
     def test_wrong_loops(self):
-        for thing in WRONG_LOOPS:
-            if thing != (1,):
-                with self.subTest(thing=repr(thing)[:40]):
-                    self.assertRaises(NoLoops, reach, thing)
-                    self.assertRaises(NoLoops, flood, thing)
+        for function in (reach, flood):
+            assert_errors(self, function, ((1, 2),), [(0, NoLoops, wrong_loops())])
 
 
 class FloodTest(unittest.TestCase):
@@ -99,10 +94,8 @@ class FewestTest(unittest.TestCase):
             self.assertLess(reach(told[:-1]) if told[1:] else 0, bound)
 
     def test_wrong_bounds(self):
-        for thing in odd_numbers() + [0, 61]:
-            with self.subTest(thing=repr(thing)[:40]):
-                self.assertRaises(NoBound, fewest, thing)
-                self.assertRaises(NoBound, lengths, thing)
+        for function in (fewest, lengths):
+            assert_errors(self, function, (1,), [(0, NoBound, wrong_bounds())])
 
 
 if __name__ == "__main__":
