@@ -39,11 +39,14 @@ def row_entries(loops, row):
     return found
 
 
+def wait_row(table, wait):
+    """The row of a wait, that of the wait 0 without any loops."""
+    return table.rows[wait - 1] if wait > 0 else ()
+
+
 def wait_entries(table, wait):
     """The entries of a letter with this wait, in the order of the items of its row."""
-    if wait == 0:
-        return []
-    return row_entries(table.loops, table.rows[wait - 1])
+    return row_entries(table.loops, wait_row(table, wait))
 
 
 def entries(table):

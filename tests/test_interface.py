@@ -17,7 +17,23 @@ FUNCTIONS = {
     "search": "rows_for(loops, wait) friends(loops, comers, row, other) table_for(loops, comers, bound) "
               "completed(loops, comers, bound, told) greatest_table(loops, comers) count_tables(loops, comers, bound)",
     "bars": "barred(loops, comers, bound) is_barred(loops, comers, bound, thing)",
+    "games": "closed(loops, comers, bound) lost(loops, comers, bound) closed_of(table, comers) "
+             "is_closed(loops, comers, bound, thing) is_lost(loops, comers, bound, thing) greatest_kept(loops, comers)",
+    "players": "led(loops, comers, bound, plan, comings)",
+    "loads": "fullest(table, comers, loop) busiest(table, comers)",
+    "rates": "rate(comers, bound, weights) share(table, comers, loop) work(table, comers) "
+             "rate_paper(comers, bound, weights, fraction) is_rate_paper(comers, bound, weights, fraction, thing) "
+             "ahead_of(one, other, comers)",
     "stands": "layings_out(loops, comers, bound, stand, number) behind(loops, comers, bound, stand, number, thing)",
+}
+
+
+CLASSES = {
+    "tables": {"Table(loops, rows)": "__eq__(self, other)"},
+    "players": {
+        "Switch(loops, comers, bound)": "stand(self) come(self, number) ticks(self) back(self)",
+        "Caller(loops, comers, bound)": "stand(self) number(self) lay(self, thing) over(self) left(self)",
+    },
 }
 
 
@@ -32,13 +48,18 @@ class InterfaceTest(unittest.TestCase):
                     self.assertEqual(function.__module__, module.__name__)
                     self.assertEqual(function.__name__ + str(inspect.signature(function)), told_one)
 
-    def test_table_is_a_class_of_its_file_with_its_own_methods(self):
-        module = importlib.import_module("loopstore.tables")
-        self.assertTrue(inspect.isclass(module.Table))
-        self.assertEqual(module.Table.__module__, "loopstore.tables")
-        self.assertEqual(str(inspect.signature(module.Table)), "(loops, rows)")
-        self.assertIn("__eq__", vars(module.Table))
-        self.assertIn("__init__", vars(module.Table))
+    def test_classes_are_defined_in_their_files_with_their_own_methods(self):
+        for name, classes in CLASSES.items():
+            module = importlib.import_module("loopstore." + name)
+            for told, methods in classes.items():
+                with self.subTest(told):
+                    made = getattr(module, told.partition("(")[0])
+                    self.assertTrue(inspect.isclass(made))
+                    self.assertEqual(made.__module__, module.__name__)
+                    self.assertEqual(made.__name__ + str(inspect.signature(made)), told)
+                    for method in methods.replace(") ", ")|").split("|"):
+                        own = vars(made)[method.partition("(")[0]]
+                        self.assertEqual(own.__name__ + str(inspect.signature(own)), method)
 
     def test_errors_are_defined_in_their_file(self):
         module = importlib.import_module("loopstore.errors")
