@@ -166,6 +166,22 @@ class LanguageTest(unittest.TestCase):
         for place, node in self.nodes(ast.keyword):
             self.assertIn(node.arg, ("key", "reverse", "start", "default"), place)
 
+    def test_l23_generators_are_called_with_plain_arguments(self):
+        own = {node.name for _, node in self.nodes(ast.FunctionDef)
+               if [part for part in ast.walk(node) if isinstance(part, (ast.Yield, ast.YieldFrom))]}
+        for place, node in self.nodes(ast.Call):
+            if isinstance(node.func, (ast.Name, ast.Attribute)):
+                if (node.func.id if isinstance(node.func, ast.Name) else node.func.attr) in own:
+                    for arg in node.args:
+                        self.assertIsInstance(arg, (ast.Name, ast.Attribute, ast.Constant), place)
+
+    def test_l24_sets_are_made_in_len_and_sorted_alone(self):
+        made = [node for _, node in self.nodes(ast.Call) if isinstance(node.func, ast.Name) and node.func.id == "set"]
+        for _, node in self.nodes(ast.Call):
+            if isinstance(node.func, ast.Name) and node.func.id in ("len", "sorted"):
+                made = [call for call in made if call not in node.args]
+        self.assertEqual(made, [])
+
     def test_l25_methods(self):
         own = {node.name for _, node in self.nodes(ast.FunctionDef)}
         for place, node in self.nodes(ast.Call):
