@@ -13,13 +13,21 @@ def layings_of(table, tick, letter, wait):
     return [(tick + gone, letter, loop) for loop, gone, left in wait_entries(table, wait)]
 
 
+def changed_layings(one, other, comings, change):
+    """All layings by the one table for letters that come ahead of a tick, by the other one for all later letters.
+
+    They are ascending; letters that meet are among them.
+    """
+    found = []
+    for letter, (tick, _, wait) in enumerate(letters_of(one.bound, comings)):
+        if wait is not None:
+            found.extend(layings_of(one if tick < change else other, tick, letter, wait))
+    return sorted(found)
+
+
 def table_layings(table, comings):
     """All layings by the table, ascending, also of letters that meet."""
-    found = []
-    for letter, (tick, _, wait) in enumerate(letters_of(table.bound, comings)):
-        if wait is not None:
-            found.extend(layings_of(table, tick, letter, wait))
-    return sorted(found)
+    return changed_layings(table, table, comings, 0)
 
 
 def first_meet(layings):
@@ -31,15 +39,29 @@ def first_meet(layings):
     return None
 
 
+def check_meet(layings):
+    met = first_meet(layings)
+    if met is not None:
+        raise Meet(met[0], met[1])
+
+
 def day(table, comers, comings):
     """All layings by the table, ascending."""
     check_comers(comers)
     check_comings(comers, comings)
     layings = table_layings(table, comings)
-    met = first_meet(layings)
-    if met is not None:
-        raise Meet(met[0], met[1])
+    check_meet(layings)
     return layings
+
+
+def inside_by(loops, layings, tick):
+    """All triples (loop, letter, left) by the layings: behind the tick the letter is in the loop for so many more."""
+    found = []
+    for entered, letter, loop in layings:
+        left = entered + loops[loop] - tick
+        if entered <= tick and left > 0:
+            found.append((loop, letter, left))
+    return sorted(found)
 
 
 def inside(table, comers, comings, tick):
@@ -48,12 +70,7 @@ def inside(table, comers, comings, tick):
     check_comings(comers, comings)
     if not is_number(tick, 0, LAST_TICK):
         raise NoTick()
-    found = []
-    for entered, letter, loop in table_layings(table, comings):
-        left = entered + table.loops[loop] - tick
-        if entered <= tick and left > 0:
-            found.append((loop, letter, left))
-    return sorted(found)
+    return inside_by(table.loops, table_layings(table, comings), tick)
 
 
 def waiting_spans(bound, comings):

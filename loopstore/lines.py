@@ -6,14 +6,13 @@ from loopstore.errors import NoSpot, NoWalk
 MOST_SPOTS = 60
 
 
-def follow_line(bound, comings):
-    """All letters as triples (tick, turn, wait), and the number of letters in the line behind each tick.
+def follow_line(bound, line, comings):
+    """All letters that come, as triples (tick, turn, wait), and the number of letters in the line behind each tick.
 
-    The wait of a letter that is turned away is None.
+    So many letters stand in the line at first. The wait of a letter that is turned away is None.
     """
     letters = []
     behind = []
-    line = 0
     for tick, number in enumerate(comings):
         for turn in range(1, number + 1):
             if line > bound:
@@ -29,7 +28,7 @@ def follow_line(bound, comings):
 
 def letters_of(bound, comings):
     """All letters, in the order of their numbers, as triples (tick, turn, wait)."""
-    letters, _ = follow_line(bound, comings)
+    letters, _ = follow_line(bound, 0, comings)
     return letters
 
 
@@ -56,7 +55,7 @@ def lines(comers, bound, comings):
     check_comers(comers)
     check_bound(bound)
     check_comings(comers, comings)
-    _, behind = follow_line(bound, comings)
+    _, behind = follow_line(bound, 0, comings)
     return behind
 
 

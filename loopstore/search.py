@@ -58,13 +58,17 @@ def rows_for(loops, wait):
     return rows_by_wait(loops, wait)[wait]
 
 
+def befriended(loops, comers, row, other):
+    return first_clash(sorted(row_entries(loops, row) + row_entries(loops, other)), comers) is None
+
+
 def friends(loops, comers, row, other):
     """Whether no entries of the two rows clash, those of one row with each other neither."""
     check_loops(loops)
     check_comers(comers)
     check_row(loops, row)
     check_row(loops, other)
-    return first_clash(sorted(row_entries(loops, row) + row_entries(loops, other)), comers) is None
+    return befriended(loops, comers, row, other)
 
 
 def foes_by_entry(having, comers):

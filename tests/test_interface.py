@@ -24,6 +24,10 @@ FUNCTIONS = {
     "rates": "rate(comers, bound, weights) share(table, comers, loop) work(table, comers) "
              "rate_paper(comers, bound, weights, fraction) is_rate_paper(comers, bound, weights, fraction, thing) "
              "ahead_of(one, other, comers)",
+    "trees": "tree_outs(tree, doorings) tree_lost(tree, doorings) tree_comings(tree, doorings) tree_lines(tree, doorings) "
+             "tree_meeting(tree) is_tree_meeting(tree, thing)",
+    "longs": "long_line(comers, bound, long) long_counts(comers, bound, long) settled(comers, bound, comings) "
+             "lost_share(comers, bound, comings)",
     "stands": "layings_out(loops, comers, bound, stand, number) behind(loops, comers, bound, stand, number, thing)",
 }
 
@@ -34,6 +38,15 @@ CLASSES = {
         "Switch(loops, comers, bound)": "stand(self) come(self, number) ticks(self) back(self)",
         "Caller(loops, comers, bound)": "stand(self) number(self) lay(self, thing) over(self) left(self)",
     },
+    "stores": {
+        "Store(table, comers)": "come(self, number) ticks(self) letters(self) inside(self) wait_of(self, letter) "
+                                "layings(self) back(self) copy(self) trying(self, action)",
+    },
+    "benches": {
+        "Bench(loops, comers)": "put(self, row) strike(self, wait) kept_rows(self) clashes(self) free_rows(self, wait) "
+                                "table(self) back(self) depth(self) copy(self) trying(self, action)",
+    },
+    "trees": {"Tree(nodes)": "__eq__(self, other)"},
 }
 
 

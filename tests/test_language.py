@@ -19,11 +19,11 @@ METHODS = set(
 LIBRARY = {"heapq": ("heappush", "heappop"), "math": ("gcd",), "itertools": ("permutations", "combinations", "product")}
 STATEMENTS = (
     ast.Assign, ast.AugAssign, ast.AnnAssign, ast.If, ast.While, ast.For, ast.Return, ast.Break, ast.Continue, ast.Pass,
-    ast.Raise, ast.Assert, ast.Delete, ast.Expr, ast.FunctionDef, ast.ClassDef, ast.ImportFrom)
+    ast.Raise, ast.Assert, ast.Delete, ast.Expr, ast.FunctionDef, ast.ClassDef, ast.ImportFrom, ast.Try)
 # Some of these are let in certain places; the package does without them, so that no place has to be judged.
 BARRED = (
     ast.GeneratorExp, ast.Set, ast.SetComp, ast.Div, ast.Global, ast.Nonlocal, ast.AsyncFunctionDef, ast.Await,
-    ast.AsyncFor, ast.AsyncWith, ast.Try, ast.With, ast.NamedExpr)
+    ast.AsyncFor, ast.AsyncWith, ast.ExceptHandler, ast.With, ast.NamedExpr, ast.Match)
 WORDS = re.compile(
     r"\b(register|mro|elements|open|input|law|type|typing|enum|Enum|Flag|Generic|Protocol|ABC|namedtuple|dataclass|"
     r"eval|exec|exit|globals|locals|vars|dir|id|gc|os|sys|super|compile|_wall|_WallAttr)\b")
@@ -107,8 +107,66 @@ class LanguageTest(unittest.TestCase):
             self.fail(f"{place}: {type(node).__name__}")
         for place, node in self.nodes(ast.FunctionDef, ast.ClassDef):
             self.assertEqual(node.decorator_list, [], place)
+        for place, node in self.nodes(ast.AnnAssign, ast.arg):
+            self.assertIsNone(node.annotation, place)
         for place, node in self.nodes(ast.Constant):
             self.assertNotIsInstance(node.value, (float, complex), place)
+
+    def test_l6_finally_puts_names_and_attributes_back_alone(self):
+        for place, node in self.nodes(ast.Try):
+            with self.subTest(place):
+                self.assertEqual(node.orelse, [])
+                for row in node.finalbody:
+                    self.assertIsInstance(row, ast.Assign)
+                    for part in ast.walk(row):
+                        self.assertIsInstance(part, (ast.Assign, ast.Tuple, ast.Attribute, ast.Name, ast.expr_context))
+
+    def test_l13_lambdas_stand_on_lines_of_their_own(self):
+        places = [place for place, _ in self.nodes(ast.Lambda)]
+        self.assertEqual(len(places), len(set(places)))
+
+    def test_l16_no_two_files_import_each_other(self):
+        ahead = {}
+        for path, tree in self.trees.items():
+            modules = [node.module for node in tree.body if isinstance(node, ast.ImportFrom)]
+            ahead[path.stem] = {module.partition(".")[2] for module in modules if module.startswith("loopstore.")}
+        while ahead:
+            free = [name for name in ahead if not ahead[name]]
+            self.assertTrue(free, sorted(ahead))
+            for name in free:
+                del ahead[name]
+            ahead = {name: needed - set(free) for name, needed in ahead.items()}
+
+    def test_l18_no_name_is_a_method_and_an_attribute_of_one_class(self):
+        for place, node in self.nodes(ast.ClassDef):
+            methods = [part.name for part in node.body if isinstance(part, ast.FunctionDef)]
+            self.assertEqual(len(methods), len(set(methods)), place)
+            for part in ast.walk(node):
+                if isinstance(part, ast.Attribute) and isinstance(part.ctx, ast.Store):
+                    self.assertNotIn(part.attr, methods, place)
+
+    def test_l23_what_is_iterated_is_iterated_at_once(self):
+        lazy = ("zip", "enumerate", "reversed", "range", "items", "keys", "values", "map", "permutations", "combinations")
+        taking = ("list", "tuple", "dict", "sorted", "sum", "any", "all", "enumerate", "zip", "len", "reversed", "min", "max",
+                  "permutations", "combinations")
+        allowed = []
+        for _, node in self.nodes(ast.For, ast.comprehension):
+            allowed.append(node.iter)
+        for _, node in self.nodes(ast.Call):
+            if isinstance(node.func, ast.Name) and node.func.id in taking:
+                allowed.extend(node.args[:1] if node.func.id != "zip" else node.args)
+            if isinstance(node.func, ast.Attribute) and node.func.attr == "join":
+                allowed.extend(node.args)
+        for place, node in self.nodes(ast.Compare):
+            if isinstance(node.ops[0], (ast.In, ast.NotIn)):
+                allowed.extend(node.comparators)
+        for place, node in self.nodes(ast.Call):
+            name = node.func.id if isinstance(node.func, ast.Name) else getattr(node.func, "attr", None)
+            if name in lazy and not (name == "range" and node in self.ranges_kept()):
+                self.assertIn(node, allowed, place)
+
+    def ranges_kept(self):
+        return [node.value for _, node in self.nodes(ast.Assign)]
 
     def test_l8_only_told_builtins_and_none_renamed(self):
         for place, node in self.nodes(ast.Name):
