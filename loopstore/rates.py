@@ -6,7 +6,7 @@ from loopstore.checks import are_integers, check_bound, check_comers, is_number
 from loopstore.errors import NoFraction, NoWeights, OtherBounds
 from loopstore.lines import nexts, spots
 from loopstore.loads import check_loop
-from loopstore.tables import wait_row
+from loopstore.tables import Table, wait_row
 
 MOST_WEIGHT = 99
 
@@ -201,7 +201,7 @@ def work(table, comers):
 def ahead_of(one, other, comers):
     """How many more loops can come in by the one table than by the other, or a round at which ever more do."""
     check_comers(comers)
-    if one.bound != other.bound:
+    if not isinstance(one, Table) or not isinstance(other, Table) or one.bound != other.bound:
         raise OtherBounds()
     mine = coming_in(one, list(range(len(one.loops))))
     others = coming_in(other, list(range(len(other.loops))))

@@ -28,6 +28,11 @@ FUNCTIONS = {
              "tree_meeting(tree) is_tree_meeting(tree, thing)",
     "longs": "long_line(comers, bound, long) long_counts(comers, bound, long) settled(comers, bound, comings) "
              "lost_share(comers, bound, comings)",
+    "lots": "needed(loops, comers, bound) needed_tables(loops, comers, bound) cheapest(prices, comers, bound) "
+            "lightest(loops, comers, bound)",
+    "changes": "crossings(one, other, comers) changed_day(one, other, comers, comings, tick) smooth(tables, comers) "
+               "crossing(one, other, comers) change_way(tables, comers, first, last) is_crossing(one, other, comers, thing)",
+    "texts": "table_text(table) comings_text(comings) day_text(thing) read_table(text) read_comings(text) read_day(text)",
     "stands": "layings_out(loops, comers, bound, stand, number) behind(loops, comers, bound, stand, number, thing)",
 }
 
@@ -47,6 +52,7 @@ CLASSES = {
                                 "table(self) back(self) depth(self) copy(self) trying(self, action)",
     },
     "trees": {"Tree(nodes)": "__eq__(self, other)"},
+    "desk": {"Desk()": "tell(self, line) undoable(self)"},
 }
 
 

@@ -93,11 +93,29 @@ class LanguageTest(unittest.TestCase):
 
     def test_l3_module_level_holds_definitions_and_plain_values(self):
         for path, tree in self.trees.items():
+            above = []
             for node in tree.body:
                 with self.subTest(f"{path.name}:{node.lineno}"):
                     self.assertIsInstance(node, (ast.Expr, ast.ImportFrom, ast.FunctionDef, ast.ClassDef, ast.Assign))
                     if isinstance(node, (ast.Expr, ast.Assign)):
-                        ast.literal_eval(node.value)
+                        value = node.value
+                        if isinstance(value, ast.Dict):
+                            # Functions that are defined above may be values of a dict.
+                            plain = [part for part in value.values if getattr(part, "id", None) not in above]
+                            value = ast.Tuple([*value.keys, *plain], ast.Load())
+                        ast.literal_eval(value)
+                    if isinstance(node, ast.FunctionDef):
+                        above.append(node.name)
+
+    def test_l15_lists_and_dicts_of_modules_are_only_read(self):
+        for path, tree in self.trees.items():
+            kept = [node.targets[0].id for node in tree.body
+                    if isinstance(node, ast.Assign) and isinstance(node.value, (ast.Dict, ast.List))]
+            read = [part for node in ast.walk(tree) for part in (
+                [node.value] if isinstance(node, (ast.Subscript, ast.Attribute)) and isinstance(node.ctx, ast.Load) else [])]
+            for node in ast.walk(tree):
+                if isinstance(node, ast.Name) and node.id in kept and isinstance(node.ctx, ast.Load):
+                    self.assertIn(node, read, f"{path.name}:{node.lineno}")
 
     def test_l4_l6_l7_statements_and_expressions(self):
         for place, node in self.nodes(ast.stmt):
