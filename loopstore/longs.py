@@ -75,7 +75,7 @@ def long_counts(comers, bound, long):
 
 
 def settle(bound, comings):
-    """The pair of the least number of rounds behind which the line stays the same, and this line."""
+    """As settled, of comings that are judged already."""
     rounds = 0
     line = 0
     behind, _, _ = follow_round(bound, line, comings)

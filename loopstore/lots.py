@@ -104,7 +104,7 @@ class Weigher:
                     best = (many, number)
         return best
 
-    def rows(self):
+    def chosen_rows(self):
         """The rows, one for each wait; there must be some."""
         found = []
         alive = self.choices.upto(self.bound)
@@ -123,4 +123,4 @@ def lightest(loops, comers, bound):
     fewest = weigher.fewest_items(choices.upto(bound), 1)
     if fewest is None:
         return None
-    return fewest, Table(loops, weigher.rows())
+    return fewest, Table(loops, weigher.chosen_rows())

@@ -63,7 +63,7 @@ class Flow:
         self.queues = [[] for _ in tree.nodes]
         # For each node and tick the number of letters that come, and of those in the line behind the tick.
         self.comings = [[] for _ in tree.nodes]
-        self.behind = [[] for _ in tree.nodes]
+        self.standing = [[] for _ in tree.nodes]
         self.outs = []
         self.lost = []
         tick = 0
@@ -97,7 +97,7 @@ class Flow:
         going = queue[:1]
         self.queues[node] = queue[1:]
         self.comings[node].append(len(come))
-        self.behind[node].append(len(self.queues[node]))
+        self.standing[node].append(len(self.queues[node]))
         return going
 
 
@@ -125,7 +125,7 @@ def tree_comings(tree, doorings):
 
 def tree_lines(tree, doorings):
     """For each node the numbers of letters in its line behind each tick of the doorings."""
-    return [numbers[:len(doorings)] for numbers in Flow(tree, doorings).behind]
+    return [numbers[:len(doorings)] for numbers in Flow(tree, doorings).standing]
 
 
 def ways_in(tree):

@@ -1,6 +1,6 @@
 """What several tests need: things of wrong kinds, and a line that is led letter by letter."""
 
-from loopstore.errors import BadTable, LoopError, NoComers
+from loopstore.errors import BadTable, LoopError, NoComers, TooMany
 from loopstore.tables import Table
 
 T = Table((1, 2), ((0,), (1,), (0, 1)))
@@ -73,6 +73,12 @@ def assert_errors(case, function, right, steps):
                     with case.assertRaises(error) as caught:
                         function(*tried)
                     case.assertIs(type(caught.exception), error)
+
+
+def assert_too_many(case, most, function, *args):
+    with case.assertRaises(TooMany) as caught:
+        function(*args)
+    case.assertEqual(caught.exception.most, most)
 
 
 def led_line(bound, comings):

@@ -203,6 +203,13 @@ class CrossingTest(unittest.TestCase):
             self.assertIs(is_crossing(ONE, OTHER, 2, (late, wrong, first, second)), False)
         self.assertIs(is_crossing(ONE, OTHER, 2, ((0,) * 400 + comings, 400 + tick, first, second)), False)
 
+    def test_the_first_tick_and_the_last_letter(self):
+        # The letter 2 comes to the loop 0 one tick behind its coming, just when the letter 3 comes.
+        self.assertIs(is_crossing(ONE, OTHER, 3, ((3, 1), 1, 2, 3)), True)
+        for wrong in (((3, 1), 0, 2, 3), ((3, 1), 2, 2, 3), ((3, 1), 1, 2, 4), ((3, 1), 1, 2, -1), ((3, 1), 1, -2, 3),
+                      ((3, 1), 1, -2, -1), ((3, 1), 1, 3, 2), ((3,), 1, 2, 3)):
+            self.assertIs(is_crossing(ONE, OTHER, 3, wrong), False)
+
     def test_letters_that_are_turned_away(self):
         one, other = Table((1, 1), ((0,), (0, 1))), Table((1, 1), ((1,), (1, 0)))
         comings = (2, 2, 2)

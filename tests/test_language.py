@@ -130,6 +130,67 @@ class LanguageTest(unittest.TestCase):
         for place, node in self.nodes(ast.Constant):
             self.assertNotIsInstance(node.value, (float, complex), place)
 
+    def test_l5_l28_classes_hold_methods_alone(self):
+        for place, node in self.nodes(ast.ClassDef):
+            with self.subTest(place):
+                self.assertIn([base.id for base in node.bases], ([], ["ValueError"], ["LoopError"]))
+                self.assertEqual(node.keywords, [])
+                for part in node.body:
+                    self.assertTrue(isinstance(part, ast.FunctionDef) or ast.get_docstring(node) and part is node.body[0])
+                    if isinstance(part, ast.FunctionDef):
+                        self.assertEqual(part.args.args[0].arg, "self")
+
+    def test_l4_parameters_are_plain(self):
+        for place, node in self.nodes(ast.arguments):
+            self.assertEqual((node.vararg, node.kwarg, node.kwonlyargs, node.posonlyargs, node.defaults), (None, None, [], [], []))
+
+    def test_l17_words_that_stand_in_no_string(self):
+        docstrings = [ast.get_docstring(node, False) for _, node in self.nodes(ast.Module, ast.FunctionDef, ast.ClassDef)]
+        for place, node in self.nodes(ast.Constant):
+            if isinstance(node.value, str) and node.value not in docstrings:
+                self.assertNotRegex(node.value, r"\b(type|typing|enum|Enum|Flag|Generic|Protocol|ABC|namedtuple)\b", place)
+                self.assertNotRegex(node.value, r"dataclass|overload|contextmanager|__|\._$", place)
+
+    def test_l18_attributes_are_assigned_through_local_names(self):
+        assigned = {node.name for _, node in self.nodes(ast.FunctionDef)}
+        for place, node in self.nodes(ast.Attribute):
+            if isinstance(node.ctx, ast.Store):
+                self.assertIsInstance(node.value, ast.Name, place)
+                assigned.add(node.attr)
+        for place, node in self.nodes(ast.Attribute):
+            self.assertIn(node.attr, assigned | METHODS, place)
+
+    def test_l19_errors_are_made_where_they_are_raised(self):
+        errors = {node.name for node in self.trees[FOLDER / "errors.py"].body if isinstance(node, ast.ClassDef)}
+        for place, node in self.nodes(ast.Raise):
+            self.assertIsInstance(node.exc, ast.Call, place)
+            self.assertIn(node.exc.func.id, errors, place)
+            self.assertIsNone(node.cause, place)
+
+    def test_l22_isinstance_names_its_classes(self):
+        own = {node.name for _, node in self.nodes(ast.ClassDef)}
+        for place, node in self.nodes(ast.Call):
+            if isinstance(node.func, ast.Name) and node.func.id == "isinstance":
+                kinds = node.args[1].elts if isinstance(node.args[1], ast.Tuple) else [node.args[1]]
+                for kind in kinds:
+                    self.assertIn(kind.id, own | {"int", "str", "bool", "list", "tuple", "dict"}, place)
+
+    def test_l23_no_generator_shares_its_name(self):
+        names = [node.name for _, node in self.nodes(ast.FunctionDef)]
+        for place, node in self.nodes(ast.FunctionDef):
+            if [part for part in ast.walk(node) if isinstance(part, (ast.Yield, ast.YieldFrom))]:
+                self.assertEqual(names.count(node.name), 1, place)
+
+    def test_l26_attributes_have_no_names_of_builtin_values(self):
+        taken = {name for kind in (str, int, list, dict, set, bytes, tuple) for name in dir(kind)}
+        for place, node in self.nodes(ast.Attribute):
+            if isinstance(node.ctx, ast.Store):
+                self.assertNotIn(node.attr, taken, place)
+        for place, node in self.nodes(ast.ClassDef):
+            for part in node.body:
+                if isinstance(part, ast.FunctionDef) and not part.name.startswith("__"):
+                    self.assertNotIn(part.name, taken - {"copy"}, place)
+
     def test_l6_finally_puts_names_and_attributes_back_alone(self):
         for place, node in self.nodes(ast.Try):
             with self.subTest(place):

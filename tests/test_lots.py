@@ -2,12 +2,12 @@ import itertools
 import random
 import unittest
 
-from common import assert_errors, nested, odd_things, wrong_bounds, wrong_comers, wrong_loops
+from common import assert_errors, assert_too_many, nested, odd_things, wrong_bounds, wrong_comers, wrong_loops
 from loopstore.clashes import safe
-from loopstore.errors import NoBound, NoComers, NoLoops, NoPrices, TooMany
+from loopstore.errors import NoBound, NoComers, NoLoops, NoPrices
 from loopstore.games import closed
 from loopstore.lots import cheapest, lightest, needed, needed_tables
-from loopstore.search import completed, count_tables, rows_for, table_for
+from loopstore.search import completed, count_tables, friends, rows_for, table_for
 from loopstore.sizes import reach
 from loopstore.tables import Table
 
@@ -31,10 +31,27 @@ def items(table):
     return sum(len(row) for row in table.rows)
 
 
-def assert_too_many(case, most, function, *args):
-    with case.assertRaises(TooMany) as caught:
-        function(*args)
-    case.assertEqual(caught.exception.most, most)
+def least_items(loops, comers, bound):
+    """The fewest items of a safe table, by going through all rows that are friends of those put ahead, heavy ones last."""
+    rows = [sorted(rows_for(loops, wait), key=len) for wait in range(1, bound + 1)]
+    known = {}
+
+    def are_friends(row, other):
+        if (row, other) not in known:
+            known[row, other] = friends(loops, comers, row, other)
+        return known[row, other]
+
+    def least(chosen, limit):
+        """The fewest items of the rows still to choose, if they are below the limit, or else the limit."""
+        if len(chosen) == bound:
+            return min(0, limit)
+        for row in rows[len(chosen)]:
+            rest = sum(len(options[0]) for options in rows[len(chosen) + 1:])
+            if len(row) + rest < limit and all(are_friends(row, other) for other in chosen):
+                limit = min(limit, len(row) + least(chosen + [row], limit - len(row)))
+        return limit
+
+    return least([], 1000)
 
 
 class NeededTest(unittest.TestCase):
@@ -218,6 +235,11 @@ class LightestTest(unittest.TestCase):
             found = completed(loops, comers, bound, {bound: row})
             if found is not None:
                 self.assertGreaterEqual(items(found), number)
+
+    def test_by_going_through_all_friends(self):
+        for loops, comers, bound in (((1, 2, 3, 4, 6), 4, 9), ((1, 2, 3, 3, 6), 3, 13), ((1, 2, 3, 5, 6), 3, 10),
+                                     ((1, 2, 4, 4, 4), 2, 13), ((1, 2, 3, 4, 5), 2, 13)):
+            self.assert_lightest(loops, comers, bound, least_items(loops, comers, bound))
 
     def test_six_loops_of_one_length(self):
         self.assert_lightest((1,) * 6, 2, 6, 21)

@@ -344,6 +344,9 @@ class AheadOfTest(unittest.TestCase):
         self.assertRaises(OtherBounds, ahead_of, T, V, 2)
         self.assertRaises(OtherBounds, ahead_of, V, T, 4)
         self.assertRaises(NoComers, ahead_of, T, V, 5)
+        for thing in [thing for thing in odd_things() if not isinstance(thing, Table)]:
+            self.assertRaises(OtherBounds, ahead_of, T, thing, 2)
+            self.assertRaises(OtherBounds, ahead_of, thing, T, 2)
 
 
 if __name__ == "__main__":

@@ -2,10 +2,11 @@ import itertools
 import random
 import unittest
 
-from common import T, V, assert_errors, odd_numbers, odd_things, odd_tuples, wrong_bounds, wrong_comers, wrong_loops
+from common import (
+    T, V, assert_errors, assert_too_many, odd_numbers, odd_things, odd_tuples, wrong_bounds, wrong_comers, wrong_loops)
 from loopstore.clashes import safe
 from loopstore.doubling import doubling_table
-from loopstore.errors import NoBound, NoComers, NoLoops, NoRow, NoTold, NoWait, TooMany
+from loopstore.errors import NoBound, NoComers, NoLoops, NoRow, NoTold, NoWait
 from loopstore.search import completed, count_tables, friends, greatest_table, rows_for, table_for
 from loopstore.sizes import reach
 from loopstore.tables import Table
@@ -39,12 +40,6 @@ def friends_by_definition(loops, comers, row, other):
 def all_safe_tables(loops, comers, bound):
     every = itertools.product(*[rows_by_definition(loops, wait) for wait in range(1, bound + 1)])
     return [rows for rows in every if safe(Table(loops, rows), comers)]
-
-
-def assert_too_many(case, most, function, *args):
-    with case.assertRaises(TooMany) as caught:
-        function(*args)
-    case.assertEqual(caught.exception.most, most)
 
 
 class RowsForTest(unittest.TestCase):
